@@ -1,0 +1,1 @@
+"""Pairwebs: places paired by their ties, as many as can be."""
