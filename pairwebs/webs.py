@@ -25,11 +25,19 @@ def is_rising(things):
     return all([one < other for one, other in zip(things, things[1:])])
 
 
+def are_places(many, thing):
+    """Tell whether a thing is a tuple of nothing but places, in whatever order, of so many."""
+    return isinstance(thing, tuple) and all([is_place(many, place) for place in thing])
+
+
+def are_unlike(places):
+    """Tell whether no place stands twice."""
+    return len(set(places)) == len(places)
+
+
 def is_tie(many, thing):
     """Tell whether a thing is a tie of two of so many places."""
-    if not isinstance(thing, tuple) or len(thing) != 2:
-        return False
-    return all([is_place(many, place) for place in thing]) and is_rising(thing)
+    return are_places(many, thing) and len(thing) == 2 and is_rising(thing)
 
 
 def is_web(thing):
@@ -45,9 +53,7 @@ def is_web(thing):
 
 def is_some(web, thing):
     """Tell whether a thing is a rising tuple of places of a web."""
-    if not isinstance(thing, tuple):
-        return False
-    return all([is_place(web[0], place) for place in thing]) and is_rising(thing)
+    return are_places(web[0], thing) and is_rising(thing)
 
 
 def must_be_web(thing):
@@ -68,9 +74,14 @@ def must_be_some(web, thing):
         raise NoPlaces("this is no rising tuple of places of the web")
 
 
+def tie_of(one, other):
+    """Tell the tie of two places that are told in either order."""
+    return (min(one, other), max(one, other))
+
+
 def have_tie(web, one, other):
     """Tell whether two places of a web have a tie, in either order."""
-    return (min(one, other), max(one, other)) in web[1]
+    return tie_of(one, other) in web[1]
 
 
 def near(web, place):

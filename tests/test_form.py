@@ -36,6 +36,18 @@ def bound_names(node):
     return []
 
 
+def imports_of(tree):
+    """The modules of the package that a file imports from, each with the names that it takes."""
+    froms = [node for node in tree.body if isinstance(node, ast.ImportFrom)]
+    return {node.module.removeprefix("pairwebs."): [alias.name for alias in node.names] for node in froms}
+
+
+def defined_in(tree):
+    """The names that a file defines at its module level."""
+    names = [name for node in tree.body for name in bound_names(node)]
+    return names + [name for node in tree.body if isinstance(node, ast.Assign) for name in bound_names(node.targets[0])]
+
+
 class Form(unittest.TestCase):
     def each_node(self):
         for path in FILES:
@@ -88,6 +100,32 @@ class Form(unittest.TestCase):
                 self.assertEqual(node.level, 0, at)
                 self.assertTrue(node.module.startswith("pairwebs."), at)
                 self.assertNotIn("*", [name.name for name in node.names], at)
+
+    def test_each_import_names_the_file_that_defines_the_name(self):
+        for path in FILES:
+            for module, names in imports_of(ast.parse(path.read_text("ascii"))).items():
+                defined = defined_in(ast.parse((PACKAGE / f"{module}.py").read_text("ascii")))
+                self.assertEqual([name for name in names if name not in defined], [], path.name)
+
+    def test_no_two_files_import_from_each_other(self):
+        left = {path.stem: set(imports_of(ast.parse(path.read_text("ascii")))) for path in FILES}
+        while left:
+            ready = [name for name in left if not left[name] & set(left)]
+            self.assertNotEqual(ready, [], left)
+            left = {name: left[name] for name in left if name not in ready}
+
+    def test_each_name_is_bound_once_and_what_is_imported_keeps_its_meaning(self):
+        for path in FILES:
+            tree = ast.parse(path.read_text("ascii"))
+            imported = [name for names in imports_of(tree).values() for name in names]
+            once = imported + defined_in(tree)
+            self.assertEqual(len(once), len(set(once)), path.name)
+            classes = [node.name for node in tree.body if isinstance(node, ast.ClassDef)]
+            nodes = [node for outer in tree.body for node in ast.walk(outer) if node is not outer]
+            inner = [name for node in nodes for name in bound_names(node)]
+            self.assertEqual([name for name in inner if name in imported + classes], [], path.name)
+            used = [node.id for node in ast.walk(tree) if isinstance(node, ast.Name)]
+            self.assertEqual([name for name in imported if name not in used], [], path.name)
 
 
 if __name__ == "__main__":

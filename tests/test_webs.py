@@ -5,10 +5,8 @@ import unittest
 
 from pairwebs.errors import NoPlace, NoPlaces, NoWeb
 from pairwebs.webs import is_web, near, pieces, pieces_without
-from things import NO_WEBS, NOTHINGS, Asking, all_some, all_webs
+from things import MIXED, NO_WEBS, NOTHINGS, Asking, all_some, all_webs
 
-# A ring of three with a tail, a pair, and a place by itself.
-MIXED = (7, ((0, 2), (0, 5), (1, 4), (2, 5), (3, 5)))
 ROW = (5, ((0, 1), (1, 2), (2, 3), (3, 4)))
 STAR = (4, ((0, 1), (0, 2), (0, 3)))
 

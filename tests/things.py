@@ -4,6 +4,9 @@ import copy
 import itertools
 import unittest
 
+from pairwebs.errors import NoPairing, NoWeb
+from pairwebs.kinds import beside, full, ring, row, sides_web, star
+
 
 def nested(depth, wrap):
     """A thing so deep, each level made by wrap of the one below it; a number by itself is one deep."""
@@ -29,6 +32,41 @@ NOTHINGS = [
 # These are no webs either, but may be places or tuples of places of some web.
 NO_WEBS = NOTHINGS + [0, 1, 7, (), (0,), (1,), (0, 1), (0, 1, 2), (1, 2, 3, 4, 5, 6, 7)]
 
+# A ring of three with a tail, a pair, and a place by itself.
+MIXED = (7, ((0, 2), (0, 5), (1, 4), (2, 5), (3, 5)))
+
+# No pairings of the mixed web; one thing is wrong with each of those that are added here.
+NO_PAIRINGS = NOTHINGS + [
+    0, 1, 7, (0,), (0, 2), (0, 1, 2),
+    ((0, 3),), ((0, 2), (3, 4)), ((0, 7),), ((-1, 2),), ((6, 7),),
+    ((2, 0),), ((0, 2), (4, 1)), ((1, 4), (0, 2)), ((3, 5), (1, 4), (0, 2)), ((1, 4), (1, 4)), ((0, 2), (0, 2)),
+    ((0, 2), (0, 5)), ((0, 2), (2, 5)), ((0, 5), (3, 5)), ((0, 2), (1, 4), (2, 5)),
+    [(0, 2)], ([0, 2],), [[0, 2]], ((0, 2), [1, 4]), [(0, 2), (1, 4)], {(0, 2): True}, {0: 2},
+    ((False, 2),), ((True, 4),), ((0, 2), (True, 4)), ((0, True),), (True, 4),
+    ((0,),), ((0, 2, 5),), ((0, 2), ()), ((0, 2), None), ((0, 2), 1), ((0, 2), "1-4"), ((0, 2), {1: 4}),
+    ((0, 2), (1, None)), ((0, 2), (1, "4")), ((0, 2), (1, [4])), ((0, 2), (1, (4,))), (((0, 2),),), ("0-2",),
+    ((0, 2), (1, 4), (3, 5), ()), (None, (0, 2)), ("", (1, 4)), ((0, 2), ((1, 4),)), (0, 2, 1, 4), "0-2",
+]
+
+OTHERS = [
+    MIXED,
+    (4, ((0, 1), (1, 2), (1, 3), (2, 3))),
+    (6, ((0, 3), (1, 3), (2, 3), (2, 4), (4, 5))),
+    (6, ((0, 1), (0, 2), (1, 2), (2, 3), (3, 4), (3, 5), (4, 5))),
+    (7, ((0, 1), (0, 2), (1, 2), (2, 3), (3, 4), (3, 5), (4, 5), (5, 6))),
+    (8, ((0, 4), (0, 7), (1, 4), (1, 5), (2, 5), (2, 6), (3, 6), (3, 7))),
+    (8, ((0, 1), (0, 2), (0, 3), (0, 4), (1, 5), (1, 6), (1, 7))),
+    (8, ((0, 7), (1, 6), (1, 7), (2, 3), (2, 5), (3, 5), (4, 5), (5, 6))),
+    (8, ((0, 3), (0, 4), (0, 5), (1, 4), (1, 6), (2, 4), (2, 7), (3, 4), (5, 6), (6, 7))),
+]
+KINDS = (
+    [row(n) for n in range(1, 9)] + [ring(n) for n in range(3, 9)] + [star(n) for n in range(1, 9)]
+    + [full(n) for n in range(1, 9)] + [(n, ()) for n in range(1, 9)]
+    + [sides_web(1, 3), sides_web(2, 2), sides_web(2, 5), sides_web(3, 3), sides_web(4, 4), sides_web(3, 5)]
+    + [beside(ring(3), row(2)), beside(ring(3), ring(5)), beside(row(3), star(4)), beside((2, ()), full(5))]
+)
+WEBS = KINDS + OTHERS
+
 
 def all_webs(many):
     """Every web of so many places."""
@@ -42,6 +80,14 @@ def all_webs(many):
 def all_some(many):
     """Every rising tuple of some of so many places."""
     return [some for size in range(many + 1) for some in itertools.combinations(range(many), size)]
+
+
+def plain_pairings(web):
+    """All pairings of a web, by going through the sets of ties that are not too many."""
+    return sorted(
+        ties for size in range(web[0] // 2 + 1) for ties in itertools.combinations(web[1], size)
+        if len({place for tie in ties for place in tie}) == 2 * size
+    )
 
 
 class Asking(unittest.TestCase):
@@ -68,3 +114,26 @@ class Asking(unittest.TestCase):
             # Texts of both tell True from 1 and a list from a tuple, at every depth.
             self.assertEqual(repr(ask(*handed)), repr(answer), (ask.__name__, handed))
             self.assertEqual(repr(handed), repr(kept))
+
+    def own(self, ask, *handed):
+        """The list told is the asker's own: whatever is done to it, the next answer is the same."""
+        answer = ask(*handed)
+        self.assertIsInstance(answer, list)
+        kept = copy.deepcopy(answer)
+        answer.append("mine")
+        answer[0] = None
+        self.told(kept, ask, *handed)
+        answer.clear()
+        self.told(kept, ask, *handed)
+
+    def no_web(self, ask, *rests):
+        """What is no web is refused as such, whatever stands behind it."""
+        for thing in NO_WEBS:
+            for rest in rests:
+                self.refused(NoWeb, ask, thing, *rest)
+
+    def no_pairing(self, ask, *rests):
+        """What is no pairing of the mixed web is refused as such, whatever stands behind it."""
+        for thing in NO_PAIRINGS:
+            for rest in rests:
+                self.refused(NoPairing, ask, MIXED, thing, *rest)
