@@ -30,9 +30,9 @@ def are_places(many, thing):
     return isinstance(thing, tuple) and all([is_place(many, place) for place in thing])
 
 
-def are_unlike(places):
-    """Tell whether no place stands twice."""
-    return len(set(places)) == len(places)
+def are_unlike(things):
+    """Tell whether none of some places, or of some tuples of places, stands twice."""
+    return len(set(things)) == len(things)
 
 
 def is_tie(many, thing):
@@ -72,6 +72,13 @@ def must_be_some(web, thing):
     """Refuse what is no rising tuple of places of a web."""
     if not is_some(web, thing):
         raise NoPlaces("this is no rising tuple of places of the web")
+
+
+def must_be_one_at_least(web, thing):
+    """Refuse what is no rising tuple of places of a web, and the one of none."""
+    must_be_some(web, thing)
+    if not thing:
+        raise NoPlaces("one place at least is due")
 
 
 def tie_of(one, other):

@@ -5,7 +5,7 @@ import unittest
 
 from pairwebs.errors import NoPlace, NoPlaces, NoWeb
 from pairwebs.webs import is_web, near, pieces, pieces_without
-from things import MIXED, NO_WEBS, NOTHINGS, Asking, all_some, all_webs
+from things import MIXED, NO_PLACES, NO_WEBS, NOTHINGS, Asking, all_some, all_webs, joined
 
 ROW = (5, ((0, 1), (1, 2), (2, 3), (3, 4)))
 STAR = (4, ((0, 1), (0, 2), (0, 3)))
@@ -13,16 +13,6 @@ STAR = (4, ((0, 1), (0, 2), (0, 3)))
 
 def all_ties(many):
     return tuple(itertools.combinations(range(many), 2))
-
-
-def joined(web, left):
-    """The pieces of what is left, by joining again and again what a tie joins."""
-    groups = [{place} for place in left]
-    for low, high in web[1]:
-        if low in left and high in left:
-            met = [group for group in groups if low in group or high in group]
-            groups = [group for group in groups if group not in met] + [set().union(*met)]
-    return sorted(tuple(sorted(group)) for group in groups)
 
 
 class IsWeb(Asking):
@@ -216,8 +206,7 @@ class PiecesWithout(Asking):
                 self.refused(NoWeb, pieces_without, thing, some)
 
     def test_no_places(self):
-        for thing in NOTHINGS + [0, 1, 7, (7,), (0, 7), (1, 2, 3, 4, 5, 6, 7)]:
-            self.refused(NoPlaces, pieces_without, MIXED, thing)
+        self.no_places(pieces_without, NO_PLACES)
 
     def test_no_places_of_what_does_not_rise(self):
         for some in [(1, 0), (0, 0), (0, 2, 1), (2, 3, 3), (0, 1, 2, 0), (6, 5)]:

@@ -4,7 +4,7 @@ import copy
 import itertools
 import unittest
 
-from pairwebs.errors import NoPairing, NoWeb
+from pairwebs.errors import NoPairing, NoPlaces, NoWeb
 from pairwebs.kinds import beside, full, ring, row, sides_web, star
 
 
@@ -35,6 +35,19 @@ NO_WEBS = NOTHINGS + [0, 1, 7, (), (0,), (1,), (0, 1), (0, 1, 2), (1, 2, 3, 4, 5
 # A ring of three with a tail, a pair, and a place by itself.
 MIXED = (7, ((0, 2), (0, 5), (1, 4), (2, 5), (3, 5)))
 
+# The web of a stem of three places and a ring of five, and the pairing that goes along both.
+FLOWER = (7, ((0, 1), (1, 2), (2, 3), (2, 6), (3, 4), (4, 5), (5, 6)))
+ALONG = ((1, 2), (3, 4), (5, 6))
+
+# Two stars whose midst places have a tie.
+TWO_STARS = (8, ((0, 1), (0, 2), (0, 3), (0, 4), (1, 5), (1, 6), (1, 7)))
+
+# No somes of the mixed web.
+NO_PLACES = NOTHINGS + [
+    0, 1, 7, (7,), (0, 7), (1, 2, 3, 4, 5, 6, 7), (2, 1), (3, 3), (0, 1, 2, 2), [1], [2, 4], (True, 2), (1, True),
+    (0, 1, None), ("1",), (1, "2"), ((1,), (2,)), (1, [2]), {1: 1}, "12", (1, (2,)), (0, 1, 2, 3, 4, 5, 6, 7),
+]
+
 # No pairings of the mixed web; one thing is wrong with each of those that are added here.
 NO_PAIRINGS = NOTHINGS + [
     0, 1, 7, (0,), (0, 2), (0, 1, 2),
@@ -49,13 +62,12 @@ NO_PAIRINGS = NOTHINGS + [
 ]
 
 OTHERS = [
-    MIXED,
+    MIXED, FLOWER, TWO_STARS,
     (4, ((0, 1), (1, 2), (1, 3), (2, 3))),
     (6, ((0, 3), (1, 3), (2, 3), (2, 4), (4, 5))),
     (6, ((0, 1), (0, 2), (1, 2), (2, 3), (3, 4), (3, 5), (4, 5))),
     (7, ((0, 1), (0, 2), (1, 2), (2, 3), (3, 4), (3, 5), (4, 5), (5, 6))),
     (8, ((0, 4), (0, 7), (1, 4), (1, 5), (2, 5), (2, 6), (3, 6), (3, 7))),
-    (8, ((0, 1), (0, 2), (0, 3), (0, 4), (1, 5), (1, 6), (1, 7))),
     (8, ((0, 7), (1, 6), (1, 7), (2, 3), (2, 5), (3, 5), (4, 5), (5, 6))),
     (8, ((0, 3), (0, 4), (0, 5), (1, 4), (1, 6), (2, 4), (2, 7), (3, 4), (5, 6), (6, 7))),
 ]
@@ -80,6 +92,16 @@ def all_webs(many):
 def all_some(many):
     """Every rising tuple of some of so many places."""
     return [some for size in range(many + 1) for some in itertools.combinations(range(many), size)]
+
+
+def joined(web, left):
+    """The pieces of what is left, by joining again and again what a tie joins."""
+    groups = [{place} for place in left]
+    for low, high in web[1]:
+        if low in left and high in left:
+            met = [group for group in groups if low in group or high in group]
+            groups = [group for group in groups if group not in met] + [set().union(*met)]
+    return sorted(tuple(sorted(group)) for group in groups)
 
 
 def plain_pairings(web):
@@ -137,3 +159,8 @@ class Asking(unittest.TestCase):
         for thing in NO_PAIRINGS:
             for rest in rests:
                 self.refused(NoPairing, ask, MIXED, thing, *rest)
+
+    def no_places(self, ask, things):
+        """What are no some of the mixed web are refused as such."""
+        for thing in things:
+            self.refused(NoPlaces, ask, MIXED, thing)
