@@ -1,8 +1,8 @@
 """How many pairings a web has: by their ties, whole ones, with a tie, and as a row of numbers that has a worth."""
 
-from pairwebs.errors import NoNumber, NoTie
+from pairwebs.errors import NoNumber
 from pairwebs.pairings import all_pairings
-from pairwebs.webs import have_tie, is_number, must_be_place, must_be_web, tie_of
+from pairwebs.webs import is_number, must_be_web, must_have_tie, tie_of
 
 
 def by_ties(web):
@@ -24,10 +24,7 @@ def whole_many(web):
 def with_tie(web, one, other):
     """Tell how many pairings have the tie of two places, told in either order."""
     must_be_web(web)
-    must_be_place(web, one)
-    must_be_place(web, other)
-    if not have_tie(web, one, other):
-        raise NoTie("these two places have no tie")
+    must_have_tie(web, one, other)
     return len([pairing for pairing in all_pairings(web) if tie_of(one, other) in pairing])
 
 

@@ -1,18 +1,13 @@
 """Pairings: some of a web's ties, no two of which have a place in common."""
 
 from pairwebs.errors import NoPairing
-from pairwebs.webs import are_unlike, is_rising, is_tie, must_be_place, must_be_web
+from pairwebs.webs import are_ties, are_unlike, must_be_place, must_be_web
 
 
 def is_pairing(web, thing):
     """Tell whether a thing is a pairing of a web."""
     must_be_web(web)
-    if not isinstance(thing, tuple):
-        return False
-    # True is equal to 1 and would be found among the web's ties, so each one must be a tie by itself, too.
-    if not all([is_tie(web[0], tie) and tie in web[1] for tie in thing]):
-        return False
-    return is_rising(thing) and are_unlike([place for tie in thing for place in tie])
+    return are_ties(web, thing) and are_unlike([place for tie in thing for place in tie])
 
 
 def must_be_pairing(web, thing):
@@ -31,9 +26,9 @@ def mate_of(pairing, place):
     return None
 
 
-def loose_of(web, pairing):
-    """Tell the rising tuple of the places of a web that are in no tie of a pairing."""
-    return tuple([place for place in range(web[0]) if mate_of(pairing, place) is None])
+def loose_of(web, ties):
+    """Tell the rising tuple of the places of a web that are in none of some ties."""
+    return tuple([place for place in range(web[0]) if mate_of(ties, place) is None])
 
 
 def loose(web, pairing):

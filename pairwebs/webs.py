@@ -1,6 +1,6 @@
 """Webs, their places and ties, and the pieces that ties hold together."""
 
-from pairwebs.errors import NoPlace, NoPlaces, NoWeb
+from pairwebs.errors import NoPlace, NoPlaces, NoTie, NoWeb
 
 MOST_PLACES = 8
 
@@ -56,6 +56,14 @@ def is_some(web, thing):
     return are_places(web[0], thing) and is_rising(thing)
 
 
+def are_ties(web, thing):
+    """Tell whether a thing is a rising tuple of ties of a web."""
+    if not isinstance(thing, tuple):
+        return False
+    # True is equal to 1 and would be found among the web's ties, so each one must be a tie by itself, too.
+    return all([is_tie(web[0], tie) and tie in web[1] for tie in thing]) and is_rising(thing)
+
+
 def must_be_web(thing):
     """Refuse what is no web."""
     if not is_web(thing):
@@ -89,6 +97,14 @@ def tie_of(one, other):
 def have_tie(web, one, other):
     """Tell whether two places of a web have a tie, in either order."""
     return tie_of(one, other) in web[1]
+
+
+def must_have_tie(web, one, other):
+    """Refuse what are no places of a web, then two that have no tie; one place twice has none."""
+    must_be_place(web, one)
+    must_be_place(web, other)
+    if not have_tie(web, one, other):
+        raise NoTie("these two places have no tie")
 
 
 def near(web, place):

@@ -16,6 +16,22 @@ def nested(depth, wrap):
     return thing
 
 
+# Put in the place of a number, a tuple or a text, none of these leaves a web, a pairing or the like what it was.
+SPOILS = [None, True, False, "", "0", [], [0], {}, {0: 0}, ((),), -9]
+
+
+def spoiled(thing):
+    """What comes of a thing where it, or anything at any place within it, is put aside for what spoils it."""
+    found = [odd for odd in SPOILS if odd != thing] + [[thing], (thing,), {0: thing}]
+    if isinstance(thing, tuple):
+        found.append(list(thing))
+        for at, inner in enumerate(thing):
+            found.extend(thing[:at] + (odd,) + thing[at + 1:] for odd in spoiled(inner))
+    elif isinstance(thing, int):
+        found.extend(truth for truth in (True, False) if truth == thing)
+    return found
+
+
 # No web, no place and no tuple of places is among these, whatever the web.
 NOTHINGS = [
     None, True, False, -1, 8, 9, 10 ** 30, -(10 ** 30), 9999999999999999999999999999999,
